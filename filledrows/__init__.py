@@ -1,0 +1,1 @@
+"""Filledrows: rows filled to one length, and what their places hold on."""
