@@ -7,6 +7,15 @@ FIRST = "b"
 FURTHER = "o"
 FILLING = "f"
 
+# The sign of a place tells its letter, and whether it is the last one of its row.
+OPENS = 0
+GOES_ON = 1
+FILLS = 2
+SINGLE = 3
+CLOSES = 4
+SIGNS = 5
+SIGN_LETTERS = "bofbo"
+
 PLANS = ("behind", "front", "joined", "packed", "any")
 
 
@@ -43,6 +52,19 @@ def rows(line):
             found.append((place, place + piece - 1))
         place += abs(piece)
     return tuple(found)
+
+
+def signs(line):
+    """The list of the signs of the places of the line."""
+    found = []
+    for piece in line:
+        if piece < 0:
+            found.extend([FILLS] * -piece)
+        elif piece == 1:
+            found.append(SINGLE)
+        else:
+            found.extend([OPENS] + [GOES_ON] * (piece - 2) + [CLOSES])
+    return found
 
 
 def fits(line, plan):
@@ -84,6 +106,12 @@ def is_line(value):
     return not any([value[k] < 0 and value[k + 1] < 0 for k in range(len(value) - 1)])
 
 
+def is_integer(value):
+    """Whether the value, whatever it is, is an integer."""
+    # In Python True is an int; here it is none.
+    return isinstance(value, int) and not isinstance(value, bool)
+
+
 def is_plan(value):
     """Whether the value, whatever it is, is a plan."""
     # The string test comes first: a value of another class may equal anything.
@@ -91,8 +119,7 @@ def is_plan(value):
 
 
 def _is_piece(value):
-    # In Python True is an int; in a line it is none.
-    return isinstance(value, int) and not isinstance(value, bool) and value != 0
+    return is_integer(value) and value != 0
 
 
 def _piece_letters(piece):

@@ -7,7 +7,7 @@ import unittest
 from filledrows.errors import InvalidLine, InvalidPlan, InvalidText
 from filledrows.lines import fits, letters, read_line, rows
 from tests.samples import (LONG_LINES, SHORT_LINES, WRONG_LINES, WRONG_PLANS, WRONG_TEXTS,
-                           Unhashable, words)
+                           Unhashable, WrongArguments, words)
 
 # What the letters of the lines of a plan look like.
 PATTERNS = {
@@ -46,15 +46,6 @@ def calls_with_line(line):
         lambda: fits(line, plan="behind"),
         lambda: fits(plan="joined", line=line),
     ]
-
-
-class WrongArguments(unittest.TestCase):
-
-    def assert_given(self, error, given, call):
-        with self.assertRaises(error) as caught:
-            call()
-        self.assertIs(type(caught.exception), error)
-        self.assertIs(caught.exception.given, given)
 
 
 class Samples(unittest.TestCase):
