@@ -59,7 +59,7 @@ class Layer:
 
     def asks(self, sign):
         """Whether a place with this sign takes from others, if it looks at any."""
-        return sign != FILLS or not (self.for_true or self.scope == ROW)
+        return sign != FILLS or not self.for_true
 
     def sees(self, sign):
         """Whether it can look at a place with this sign."""

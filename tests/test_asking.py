@@ -145,6 +145,15 @@ class Compared(Answers):
             layers = tuple(draw.choice(LAYERS_BY_WIDTH[width]) for width in widths)
             self.assert_answers(layers, None, some_lines)
 
+    def test_programs_to_which_further_rounds_make_a_difference(self):
+        for layers, kind, plans in MORE_ROUNDS:
+            self.assert_answers(layers, None, LINES)
+            self.assert_answers(layers, 1, LINES)
+            for plan in plans:
+                once = shown(Program(layers), kind, plan)
+                ever = shown(Program(layers), kind, plan, rounds=None)
+                self.assertTrue(once is None or size(once[0]) > size(ever[0]), (layers, kind, plan))
+
     def test_things_far_apart(self):
         draw = random.Random(8)
         far = [layer for layer in LAYERS if {"all", "first", "last", "every"} & set(layer.split(" "))]
@@ -194,8 +203,28 @@ KNOWN = [
     (("look line ahead 1 own", "clear"), None, "filling", "behind", 2),
     (("look line around 1", "clear"), 2, "filling", "any", 3),
     (("clear", "look line around 1"), 2, "filling", "any", None),
+    (("look line at 1 ahead", "look row last"), 2, "other", "packed", 3),
+    (("look line at 1 ahead", "look row last"), 3, "other", "packed", 4),
+    (("look line at 1 ahead", "look row last"), 3, "other", "joined", 4),
+    (("look line at 1 ahead", "look row last"), 2, "filling", "packed", 3),
+    (("look line at 1 ahead", "look row last"), 2, "filling", "behind", None),
     (("look true around all", "look row around all"), None, "other", "joined", 3),
     (("look true around all", "look row around all"), None, "other", "behind", None),
+]
+
+
+# Layers with a kind and plans for which one round shows nothing or only longer lines.
+MORE_ROUNDS = [
+    (("look line back 2 own", "look line at 2 ahead for true"), "earlier", ("behind", "packed", "any")),
+    (("add line back 2", "look line ahead all every 2 for true"), "earlier", ("behind", "any")),
+    (("look line around 2", "look line back 2 every 2 for true"), "later", ("front", "any")),
+    (("look true at 2 back for true", "look line ahead 2 own"), "later", ("any",)),
+    (("look true ahead 1 own", "add line around 1", "look line at 2 back for true"), "later", ("front",)),
+    (("look true ahead 1 for true", "look line back 2 every 2", "look true at 1 ahead for true"),
+     "other", ("any",)),
+    (("look line around 2 every 2", "look row last"), "later", ("joined", "packed")),
+    (("look true around 3 every 3 for true", "look row first for true"), "earlier", ("joined",)),
+    (("look line around all every 3", "look true at 1 back for true"), "earlier", ("behind", "packed")),
 ]
 
 
@@ -250,6 +279,10 @@ class Known(Answers):
         for plan in PLANS:
             self.assertEqual(shown(program, "strange", plan), shown(program, "strange", plan, rounds=1))
             self.assertIs(can_hold(program, "strange", plan), plan != "front")
+        program = Program(("look line at 1 ahead", "look row last"))
+        self.assertIs(can_hold(program, "filling", "behind"), True)
+        self.assertIs(can_hold(program, "filling", "behind", rounds=2), False)
+        program = Program(("look line at 1 ahead",))
         self.assertEqual(size(shown(program, "filling", "behind")[0]), 2)
         self.assertEqual(size(shown(program, "filling", "behind", rounds=2)[0]), 3)
 
