@@ -1,13 +1,14 @@
 """Questions about all lines of a plan: what their true places can hold."""
 
 from filledrows.errors import InvalidNumber, TooMany
+from filledrows.kinds import check_kind
 from filledrows.limits import MOST_EVER, MOST_WIDTH
 from filledrows.lines import check_plan
-from filledrows.machines import check_kind, kind_machine, layer_machine, plan_machine
+from filledrows.machines import kind_machine, plan_machine
 from filledrows.programs import check_program, layers_of, width_of
 from filledrows.running import is_rounds
 from filledrows.searches import WalkSearch, shortest
-from filledrows.walks import Walks
+from filledrows.walks import Walks, links_of
 
 
 def can_hold(program, kind, plan, *, rounds=1):
@@ -22,10 +23,7 @@ def shown(program, kind, plan, *, rounds=1):
     check_plan(plan)
     check_any_rounds(rounds)
     check_width(program, rounds)
-    # A walk goes back through the layers, from what is held in the end.
-    links = [layer_machine(layer) for layer in reversed(layers_of(program))]
-    walks = Walks(links, True) if rounds is None else Walks(links * rounds, False)
-    return _shortest(walks, kind, plan)
+    return shortest(kind_search(walks_of(program, rounds), kind, plan))
 
 
 def miscounted(program, plan):
@@ -34,7 +32,8 @@ def miscounted(program, plan):
     check_plan(plan)
     for index, layer in enumerate(layers_of(program)):
         # What a true place takes besides those at which it looks is only itself.
-        if _shortest(Walks([layer_machine(layer)], False), "strange", plan) is not None:
+        looks = Walks(links_of([layer]), False)
+        if shortest(kind_search(looks, "strange", plan)) is not None:
             return index
     return None
 
@@ -55,5 +54,12 @@ def check_width(program, rounds):
         raise TooMany(MOST_WIDTH)
 
 
-def _shortest(walks, kind, plan):
-    return shortest(WalkSearch(walks, kind_machine(kind), plan_machine(plan)))
+def walks_of(program, rounds):
+    """The walks over what is taken in so many rounds, None for any number of them."""
+    links = links_of(layers_of(program))
+    return Walks(links, True) if rounds is None else Walks(links * rounds, False)
+
+
+def kind_search(walks, kind, plan):
+    """The search for a line of the plan with a walk to a place of this kind."""
+    return WalkSearch(walks, kind_machine(kind), plan_machine(plan))

@@ -49,6 +49,10 @@ class Layer:
         self.for_true = for_true
         self.clears = clears
 
+    def in_row(self):
+        """The layer by which true places take as they do where their row is the whole line."""
+        return Layer(self.width, ROW, self.span, own=self.own, clears=self.clears)
+
     def keeps(self, sign):
         """Whether a place with this sign takes from itself."""
         if self.clears:

@@ -6,6 +6,7 @@ from filledrows.limits import MOST_PLACES
 FIRST = "b"
 FURTHER = "o"
 FILLING = "f"
+LETTERS = "bof"
 
 # The sign of a place tells its letter, and whether it is the last one of its row.
 OPENS = 0
@@ -65,6 +66,11 @@ def signs(line):
         else:
             found.extend([OPENS] + [GOES_ON] * (piece - 2) + [CLOSES])
     return found
+
+
+def sign_of(letter, goes_on):
+    """The sign of a place with this letter, whose row goes on behind it or does not."""
+    return SIGN_LETTERS.find(letter) if goes_on else SIGN_LETTERS.rfind(letter)
 
 
 def fits(line, plan):

@@ -6,7 +6,7 @@ MARKS * SIGN + MARK, and stops, where None stands there. Behind the line it is i
 marks are read and what it asks of them is so.
 """
 
-from filledrows.errors import InvalidKind
+from filledrows.graphs import explored
 from filledrows.layers import ROW
 from filledrows.lines import CLOSES, FILLS, GOES_ON, OPENS, SIGNS
 
@@ -19,8 +19,6 @@ MARKS = 4
 
 START = 0
 DONE = 1
-
-KINDS = ("filling", "other", "strange", "later", "earlier")
 
 # For each state of a plan: where the beginning of a row leads, and where a filling place.
 PLAN_ROWS = {
@@ -121,21 +119,22 @@ def plan_machine(plan):
         at = PLAN_FILLINGS[plan][at] if sign == FILLS else PLAN_ROWS[plan][at]
         return None if at is None else (at, _goes_on(sign))
 
-    moves, states = _explored([(0, False)], step, SIGNS)
+    moves, states = explored([(0, False)], step, SIGNS)
     last = [reached in PLAN_ENDS[plan] and not goes_on for reached, goes_on in states]
     return PlanMachine(moves, last)
 
 
-def check_kind(kind):
-    """Raises InvalidKind for what is no kind."""
-    if not is_kind(kind):
-        raise InvalidKind(kind)
-
-
-def is_kind(value):
-    """Whether the value, whatever it is, is a kind."""
-    # The string test comes first: a value of another class may equal anything.
-    return isinstance(value, str) and value in KINDS
+def turned(machine):
+    """The machine with marks that asks of y and x what this one asks of x and y."""
+    moves = []
+    for row in machine.moves:
+        turned_row = []
+        for sign in range(SIGNS):
+            no_mark, x, y, both = row[MARKS * sign:MARKS * (sign + 1)]
+            turned_row.extend([no_mark, y, x, both])
+        moves.append(tuple(turned_row))
+    marks = {NO_MARK: NO_MARK, X: Y, Y: X, BOTH: BOTH}
+    return Machine(tuple(moves), [marks[read] for read in machine.marked])
 
 
 def _goes_on(sign):
@@ -169,26 +168,9 @@ def _marks_machine(same, begin, go, end):
             return _remembering(read, go(memory, sign))
         return (BOTH, None) if end(memory, sign, mark) else None
 
-    moves, states = _explored([(NO_MARK, None), (BOTH, None)], step, SIGNS * MARKS)
+    moves, states = explored([(NO_MARK, None), (BOTH, None)], step, SIGNS * MARKS)
     return Machine(moves, [read for read, _ in states])
 
 
 def _remembering(read, memory):
     return None if memory is None else (read, memory)
-
-
-def _explored(first, step, symbols):
-    # The moves of all states that are reached from the first ones, and all states, in one order.
-    states = list(first)
-    numbers = {state: number for number, state in enumerate(states)}
-    moves = []
-    while len(moves) < len(states):
-        row = []
-        for symbol in range(symbols):
-            reached = step(states[len(moves)], symbol)
-            if reached is not None and reached not in numbers:
-                numbers[reached] = len(states)
-                states.append(reached)
-            row.append(numbers.get(reached))
-        moves.append(tuple(row))
-    return tuple(moves), states

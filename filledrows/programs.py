@@ -69,8 +69,20 @@ def check_program(value):
 
 def check_index(program, index):
     """Raises InvalidIndex for what is no index of a layer of the program."""
-    if not is_integer(index) or not 0 <= index < len(program):
+    if not is_index(program, index):
         raise InvalidIndex(index)
+
+
+def is_index(program, value):
+    """Whether the value, whatever it is, is the index of a layer of the program."""
+    return is_integer(value) and 0 <= value < len(program)
+
+
+def program_of(layers):
+    """The program with this tuple of layers; None if they are too few, too many or too wide."""
+    if len(layers) == 0 or _first_wrong(layers) is not None:
+        return None
+    return Program(layers)
 
 
 def layers_of(program):

@@ -13,7 +13,7 @@ def taken(program, index, line):
     check_program(program)
     check_index(program, index)
     check_line(line)
-    return tuple([tuple(places) for places in _taken(read_layer(program.layers[index]), line)])
+    return tuple([tuple(places) for places in taken_lists(read_layer(program.layers[index]), line)])
 
 
 def held(program, line, *, rounds=1):
@@ -36,6 +36,16 @@ def alone(program, line, *, rounds=1):
     return tuple(found)
 
 
+def held_sets(layers, line, rounds=1):
+    """For each place the set of those that it holds behind so many rounds of these layers."""
+    takings = [taken_lists(layer, line) for layer in layers]
+    holds = [1 << place for place in range(len(signs(line)))]
+    for _ in range(rounds):
+        for taking in takings:
+            holds = [_together(holds, places) for places in taking]
+    return holds
+
+
 def check_rounds(rounds):
     """Raises InvalidNumber for what is no integer from 1 to 6."""
     if not is_rounds(rounds):
@@ -47,8 +57,8 @@ def is_rounds(value):
     return is_integer(value) and 1 <= value <= MOST_ROUNDS
 
 
-def _taken(layer, line):
-    # For each place the ascending list of those from which it takes.
+def taken_lists(layer, line):
+    """For each place the ascending list of those from which it takes in this layer."""
     place_signs = signs(line)
     pieces = _piece_of_each(line)
     found = []
@@ -77,12 +87,7 @@ def _piece_of_each(line):
 
 
 def _held(program, line, rounds):
-    # What a place holds is kept as a number, in which each place has a bit of its own.
-    layers = [_taken(layer, line) for layer in layers_of(program)]
-    holds = [1 << place for place in range(len(signs(line)))]
-    for _ in range(rounds):
-        for layer in layers:
-            holds = [_together(holds, places) for places in layer]
+    holds = held_sets(layers_of(program), line, rounds)
     return tuple([tuple(members(places)) for places in holds])
 
 

@@ -1,10 +1,9 @@
 """Searches through the lines of a plan for a shortest one."""
 
-from filledrows.lines import SIGN_LETTERS, SIGNS, read_line
-from filledrows.machines import DONE, MARKS, NO_MARK, START, X, Y
-
-# What is left of a walk that has come from x to y.
-ARRIVED = (None, None, None)
+from filledrows.graphs import Joined
+from filledrows.lines import FILLS, SIGN_LETTERS, SIGNS, read_line
+from filledrows.machines import BOTH, DONE, MARKS, NO_MARK, START, X, Y
+from filledrows.readers import ARRIVED, MarkedLines
 
 
 class WalkSearch:
@@ -29,6 +28,10 @@ class WalkSearch:
         """Whether a line that is looked for can end in this state."""
         plan, kind, *walk = state
         return self.plan.last[plan] and kind == DONE and tuple(walk) == ARRIVED
+
+    def is_between(self, state):
+        """Whether just one of x and y is read in this state."""
+        return self.kind.marked[state[1]] in (X, Y)
 
     def steps(self, state):
         """The steps over a further place: its sign, its mark and the state behind it."""
@@ -60,6 +63,49 @@ class WalkSearch:
         return [(next_table, way_out, way_in) for way_out in outs for way_in in ins]
 
 
+class DifferenceSearch:
+    """Looks for a line of a plan on which just one of two readers tells that a true x holds y.
+
+    A state tells where the machine of the plan and both readers are. Two states of readers in which
+    they are at once are joined, since they should tell the same of what comes. Where both are
+    joined already no step leads: if they differ in what comes, so do two by which they are joined,
+    and these were not reached later.
+    """
+
+    def __init__(self, one, other, plan):
+        self.one = one
+        self.other = other
+        self.lines = MarkedLines(plan, BOTH)
+        self.joined = Joined()
+
+    def start(self):
+        """The state before the first place."""
+        return self.lines.start(), self.one.start(), self.other.start()
+
+    def is_last(self, state):
+        """Whether a line that is looked for can end in this state."""
+        at, one, other = state
+        return self.lines.is_last(at) and (one == ARRIVED) != (other == ARRIVED)
+
+    def steps(self, state):
+        """The steps over a further place: its sign, its mark and the state behind it."""
+        at, one, other = state
+        found = []
+        for sign, mark, next_at in self.lines.steps(at):
+            if mark & X == 0 or sign != FILLS:
+                next_one = self.one.step(one, sign, mark)
+                next_other = self.other.step(other, sign, mark)
+                if self._join(next_at, next_one, next_other):
+                    found.append((sign, mark, (next_at, next_one, next_other)))
+        return found
+
+    def _join(self, at, one, other):
+        # A reader that has stopped is the same for both.
+        one = None if one is None else (0, at, one)
+        other = None if other is None else (1, at, other)
+        return self.joined.tie(one, other)
+
+
 def shortest(search):
     """A shortest line that is looked for, with its places x and y; None if there is none."""
     states = [search.start()]
@@ -77,6 +123,22 @@ def shortest(search):
     return None
 
 
+def all_states(search):
+    """All states of a search, and for each of them the numbers of those to which steps lead."""
+    states = [search.start()]
+    numbers = {states[0]: 0}
+    leads = []
+    while len(leads) < len(states):
+        reached = []
+        for _, _, state in search.steps(states[len(leads)]):
+            if state not in numbers:
+                numbers[state] = len(states)
+                states.append(state)
+            reached.append(numbers[state])
+        leads.append(reached)
+    return states, leads
+
+
 def _told(came, state):
     # The line over whose places the search came to this state, with its places x and y.
     letters = ""
@@ -85,4 +147,8 @@ def _told(came, state):
         state, sign, mark = came[state]
         letters = SIGN_LETTERS[sign] + letters
         marks.insert(0, mark)
-    return read_line(letters), marks.index(X), marks.index(Y)
+    return read_line(letters), _place_of(X, marks), _place_of(Y, marks)
+
+
+def _place_of(mark, marks):
+    return [place for place, others in enumerate(marks) if others & mark][0]

@@ -12,7 +12,7 @@ lead ahead out of it a walk goes on from there, without leaving it before.
 
 from filledrows.bits import members
 from filledrows.lines import SIGNS
-from filledrows.machines import BOTH, DONE, MARKS, NO_MARK, START, X, Y
+from filledrows.machines import BOTH, DONE, MARKS, NO_MARK, START, X, Y, layer_machine
 
 
 class Walks:
@@ -104,6 +104,12 @@ class Walks:
 
     def _landing(self, index):
         return (index + 1) % self.stops
+
+
+def links_of(layers):
+    """The links of walks through these layers."""
+    # A walk goes back through the layers, from what is held in the end.
+    return [layer_machine(layer) for layer in layers[::-1]]
 
 
 def _crossings(links, mark):

@@ -68,6 +68,9 @@ KINDS = ("filling", "other", "strange", "later", "earlier")
 
 SHORT_LINES = [line for places in range(1, 6) for line in lines(places)]
 
+# All lines of up to six places, with fewer places first.
+LINES = SHORT_LINES + list(lines(6))
+
 # Each with its letters, its rows and the plans of which it is one.
 LONG_LINES = [
     ((60,), "b" + "o" * 59, ((0, 59),), {"behind", "front", "joined", "packed", "any"}),
@@ -141,6 +144,19 @@ WRONG_INDEXES = [value for value in ODD_VALUES if not (type(value) is int and 0 
     4, 5, -1, -2, -4, "0", "", (0,), (), [0], (1, 0),
 ]
 
+# No tuples of layers.
+WRONG_LAYERS = [value for value in ODD_VALUES if not isinstance(value, tuple)] + [
+    "", "clear", "look row back 1", ["clear"], {"clear": 1}, 0, True,
+]
+
+# What is no layer in a tuple of them.
+NO_LAYERS = ODD_VALUES + [
+    "", "clear ", " clear", "clear own", "look row back", "look row back 4", "look row back 0",
+    "add row back 1 own", "look line first", "look row at all back", "look row at 1 back every 2",
+    "look row back 1 every 4", "look row back 1 for true own", "look  row back 1", "Clear",
+    "look row back 1\n", "clear\nclear", ("clear",), ["clear"], (), 1, NESTED,
+]
+
 WRONG_PROGRAMS = ODD_VALUES + [
     "", "clear", "look row back 1", (), ("clear",), ["clear"], ("look row back 1", "clear"),
     (1, -1), NESTED,
@@ -163,6 +179,7 @@ def written_layers():
 
 
 LAYERS = written_layers()
+LAYERS_WRITTEN = set(LAYERS)
 
 
 def layer_width(layer):
@@ -193,6 +210,42 @@ def drawn_programs(draw, many, *, widest=8):
     return found
 
 
+def changed_layer(draw, layer):
+    """A layer that is written much like this one."""
+    words = layer.split(" ")
+    while True:
+        found = list(words)
+        at = draw.randrange(len(found))
+        if draw.random() < 0.3:
+            del found[at:]
+            found += draw.choice((words[at + 1:], ["own"], ["for", "true"], ["every", "2"], []))
+        else:
+            found[at] = draw.choice("clear look add row true line back ahead around 1 2 3 all".split())
+        found = " ".join(found)
+        if found != layer and found in LAYERS_WRITTEN:
+            return found
+        if draw.random() < 0.05:
+            return draw.choice(LAYERS)
+
+
+def changed_layers(draw, layers):
+    """The layers of a program that is made much like this one."""
+    while True:
+        found = list(layers)
+        way = draw.random()
+        at = draw.randrange(len(found))
+        if way < 0.6:
+            found[at] = changed_layer(draw, found[at])
+        elif way < 0.75:
+            del found[at]
+        elif way < 0.9:
+            found.insert(at, "clear")
+        else:
+            draw.shuffle(found)
+        if 1 <= len(found) <= 4 and sum(map(layer_width, found)) <= 8:
+            return tuple(found)
+
+
 def drawn_lines(draw, many, longest):
     """So many lines of up to so many places."""
     found = []
@@ -205,6 +258,26 @@ def drawn_lines(draw, many, longest):
             left -= size
         found.append(tuple(line))
     return found
+
+
+def size(line):
+    """How many places the line has."""
+    return sum(map(abs, line))
+
+
+def is_of_plan(line, plan):
+    """Whether the line is one of the plan."""
+    filled = [piece < 0 for piece in line]
+    return {
+        "behind": filled in ([False], [False, True]),
+        "front": filled in ([False], [True, False]),
+        "joined": not any(filled),
+        "packed": not any(filled[:-1]) and filled != [True],
+        "any": True,
+    }[plan]
+
+
+PLANS_OF = {line: [plan for plan in PLANS if is_of_plan(line, plan)] for line in LINES}
 
 
 @functools.lru_cache(maxsize=None)

@@ -11,25 +11,17 @@ from filledrows.errors import InvalidKind, InvalidNumber, InvalidPlan, NotAProgr
 from filledrows.lines import fits
 from filledrows.programs import Program
 from filledrows.running import held
-from tests.samples import (KINDS, LAYERS, LAYERS_BY_WIDTH, PLANS, WRONG_KINDS, WRONG_NUMBERS,
+from tests.samples import (KINDS, LAYERS, LAYERS_BY_WIDTH, LINES, PLANS, WRONG_KINDS, WRONG_NUMBERS,
                            WRONG_PLANS, WRONG_PROGRAMS, WrongArguments, as_tuples, drawn_programs,
-                           layer_width, lines, of_kind, plain_held, plain_looks)
+                           layer_width, of_kind, plain_held, plain_looks, size)
 
 WIDE = Program(("look line back 1 own", "look line ahead 1 own"))
 CLEAN = Program(("look line back 1 own", "clear", "look line ahead 1 own"))
-
-# All lines of up to six places, with fewer places first.
-LINES = [line for places in range(1, 7) for line in lines(places)]
 
 # Longer lines, of the two plans that have few of them.
 LONGER_LINES = [line for places in range(7, 14)
                 for line in [(places,)] + [(true, true - places) for true in range(1, places)]
                 + [(true - places, true) for true in range(1, places)]]
-
-
-def size(line):
-    """How many places the line has."""
-    return sum(map(abs, line))
 
 
 PLANS_OF = {line: [plan for plan in PLANS if fits(line, plan)] for line in LINES + LONGER_LINES}
